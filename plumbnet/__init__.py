@@ -1,0 +1,1 @@
+"""Plumbnet: the heights of a survey, adjusted exactly."""
