@@ -3,7 +3,7 @@
 import unittest
 from itertools import product as pairs_of
 
-from helpers import matrix, vector
+from helpers import made, matrix, vector
 from plumbnet import matrices
 from plumbnet.matrices import (
     apply, identity, is_symmetric, outer, product, scaled, sum_of, transpose, zeros,
@@ -16,14 +16,6 @@ TALL_ROWS = ((1, "1/2"), (2, 0), (3, -1))
 WIDE = matrix(*WIDE_ROWS)
 TALL = matrix(*TALL_ROWS)
 SQUARE = matrix((1, 2), (3, 4))
-
-
-def made(height, width, seed):
-    """A matrix of this form with many different numbers."""
-    return matrix(*[
-        [f"{(seed + 7 * row + 3 * column) ** 2 - 50}/{row + 2 * column + 1}" for column in range(width)]
-        for row in range(height)
-    ])
 
 
 FORMS = list(pairs_of(range(4), range(4)))
