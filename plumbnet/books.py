@@ -28,23 +28,18 @@ class Book:
 
     def add_point(self, name, approximation):
         """Adds a point behind the others."""
-        if name in self.points:
-            raise DuplicateName(name)
-        if len(self.points) >= MOST_POINTS:
-            raise LimitReached("points")
+        check_new_point(self.points, name)
         self.points.append(name)
         self.approximations[name] = approximation
 
     def add_reading(self, name, terms, value, weight):
         """Adds a reading behind the others."""
-        if any([one.name == name for one in self.readings]):
-            raise DuplicateName(name)
+        check_new_reading(self.readings, name)
         if not are_allowed(terms):
             raise BadReading("terms")
         check_points(self.points, terms)
         check_weight(weight)
-        if len(self.readings) >= MOST_READINGS:
-            raise LimitReached("readings")
+        check_room(self.readings)
         self.readings.append(Reading(name, terms, value, weight))
 
     def change_approximation(self, name, approximation):
@@ -97,6 +92,11 @@ def row_of(book, reading):
     return row_among(book.points, reading.terms)
 
 
+def rows_of(book):
+    """The matrix of the rows of the readings of a book, in their order."""
+    return tuple([row_of(book, reading) for reading in book.readings])
+
+
 def row_among(points, terms):
     """The coefficients of the terms in the order of the points, 0 for points that they do not name."""
     coefficients = dict(terms)
@@ -116,6 +116,26 @@ def are_allowed(terms):
 def names_point(terms, point):
     """True if one of the terms has this point."""
     return any([name == point for name, _ in terms])
+
+
+def check_new_point(points, name):
+    """Raises an error if a point of this name cannot be added to the points."""
+    if name in points:
+        raise DuplicateName(name)
+    if len(points) >= MOST_POINTS:
+        raise LimitReached("points")
+
+
+def check_new_reading(readings, name):
+    """Raises DuplicateName if one of the readings has this name."""
+    if any([one.name == name for one in readings]):
+        raise DuplicateName(name)
+
+
+def check_room(readings):
+    """Raises LimitReached if no reading can be added to the readings."""
+    if len(readings) >= MOST_READINGS:
+        raise LimitReached("readings")
 
 
 def check_point(points, name):

@@ -66,6 +66,23 @@ class Language(unittest.TestCase):
             else:
                 self.assertLessEqual(names, LIBRARY.get(node.module, set()), place)
 
+    def test_imported_names_are_used_and_keep_their_meaning(self):
+        for path in files():
+            tree = ast.parse(path.read_text("utf-8"))
+            names = {one.name for node in tree.body if isinstance(node, ast.ImportFrom) for one in node.names}
+            classes = {node.name for node in tree.body if isinstance(node, ast.ClassDef)}
+            nodes = list(ast.walk(tree))
+            taken = {node.arg for node in nodes if isinstance(node, ast.arg)}
+            taken |= {node.id for node in nodes if isinstance(node, ast.Name) and isinstance(node.ctx, ast.Store)}
+            self.assertEqual(taken & (names | classes), set(), path.name)
+            self.assertLessEqual(names, {node.id for node in nodes if isinstance(node, ast.Name)}, path.name)
+
+    def test_sorted_compares_strings(self):
+        # Ratios have an order, so what is sorted has to be plainly strings.
+        for place, node in self.nodes(ast.Call):
+            if isinstance(node.func, ast.Name) and node.func.id == "sorted":
+                self.assertEqual([(one.arg, ast.unparse(one.value)) for one in node.keywords], [("key", "str")], place)
+
     def test_builtins(self):
         for place, node in self.nodes(ast.Name):
             if hasattr(builtins, node.id):

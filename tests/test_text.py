@@ -6,7 +6,7 @@ import string
 import unittest
 from fractions import Fraction
 
-from helpers import book_of, state
+from helpers import NAME, book_of, is_number, state
 from plumbnet import text
 from plumbnet.books import Book
 from plumbnet.errors import ParseError
@@ -327,16 +327,6 @@ class OrderOfReasons(TextCase):
             ("reading more 1 0 1 p0", "weight"), ("reading more 1 1 1 p0", "limit"),
         ):
             self.refuse(lines(*full, line), reason, 28)
-
-
-NAME = r"[A-Za-z][A-Za-z0-9_]{0,11}"
-
-
-def is_number(word):
-    """True for the written form of a number that can be read, told by other means than the program's."""
-    if re.fullmatch(r"-?[0-9]{1,9}(/[0-9]{1,9})?", word) is None or re.search(r"/0+\Z", word):
-        return False
-    return str(Fraction(word)) == word
 
 
 def reason_of(written):
