@@ -1,8 +1,7 @@
 """Nets: points and readings, and the heights at which the squares of the misfits are least."""
 
-from plumbnet.books import (
-    Reading, check_new_point, check_new_reading, check_points, check_room, check_weight, place_of, row_among,
-)
+from plumbnet.books import Reading, place_of, row_among
+from plumbnet.books import check_new_point, check_new_reading, check_points, check_room, check_weight
 from plumbnet.echelon import kernel, span_of
 from plumbnet.matrices import apply
 from plumbnet.pseudo import add_term, with_added, with_removed

@@ -21,6 +21,8 @@ class Log:
         self._done = []
         # The one that is done again first stands last.
         self._back = []
+        # The net of the last book, or None as long as nobody has asked for it.
+        self._net = None
 
     def do(self, deed):
         """Does a deed and discards those that might be done again."""
@@ -37,6 +39,7 @@ class Log:
             raise NothingToUndo()
         self._back.append(self._done.pop())
         del self._books[-1]
+        self._net = None
 
     def redo(self):
         """Does again the deed that was taken back last."""
@@ -61,23 +64,30 @@ class Log:
 
     def heights(self):
         """The told heights of the book."""
-        return net_of(self._books[-1]).heights()
+        return self._told().heights()
 
     def misfits(self):
         """The misfits at the told heights of the book."""
-        return net_of(self._books[-1]).misfits()
+        return self._told().misfits()
 
     def squares(self):
         """The squares at the told heights of the book."""
-        return net_of(self._books[-1]).squares()
+        return self._told().squares()
 
     def rank(self):
         """The rank of the rows of the book's readings."""
-        return net_of(self._books[-1]).rank()
+        return self._told().rank()
 
     def _keep(self, deed, book):
         self._done.append(deed)
         self._books.append(book)
+        self._net = None
+
+    def _told(self):
+        """The net of the book."""
+        if self._net is None:
+            self._net = net_of(self._books[-1])
+        return self._net
 
 
 def carry_out(book, deed):
